@@ -1,0 +1,1 @@
+"""Miles that run out: the accounts of a house of travellers."""
