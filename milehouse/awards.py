@@ -28,6 +28,11 @@ def book_award(house, asker, booking, cost):
     return answer
 
 
+def cost_of(award):
+    """The miles of all the draws of an award, together."""
+    return sum([miles for owner, last_day, miles in award.draws])
+
+
 def cancel_award(house, booking):
     """Promise 4."""
     if booking not in house.awards:

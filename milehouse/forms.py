@@ -29,9 +29,6 @@ FORMS = (
     ((), ()),  # awards
 )
 
-# The calls behind this place are read, so that a line is not lost at them, but not yet answered.
-LAST_PLACE = 7
-
 
 def split_calls(line):
     """The calls of a line, each a list of rows: its place and plain arguments, then its lists."""
@@ -55,7 +52,7 @@ def has_form(call):
     if len(call) == 0 or len(call[0]) == 0:
         return False
     place = call[0][0]
-    if place < 0 or place > LAST_PLACE:
+    if place < 0 or place >= len(FORMS):
         return False
     form = FORMS[place]
     return len(call[0]) == 1 + len(form[0]) and len(call) == 1 + len(form[1])

@@ -22,6 +22,20 @@ def count_miles(holdings):
     return miles
 
 
+def miles_before(lots, day):
+    """How many miles of the lots have a last day before this day."""
+    return sum([lots[last_day] for last_day in lots if last_day < day])
+
+
+def run_out_before(lots, day):
+    """Takes away every lot whose last day is before this day, and gives back how many miles went."""
+    miles = miles_before(lots, day)
+    for last_day in list(lots):
+        if last_day < day:
+            lots.pop(last_day)
+    return miles
+
+
 def oldest_first(holdings):
     """For each lot of the holdings its last day and its holding's index, in the order of taking."""
     order = []

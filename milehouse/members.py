@@ -30,9 +30,14 @@ def add_member(house, newcomer):
     return [0]
 
 
+def counts_on(day, today):
+    """Whether points that came on a day still count today."""
+    return day + YEAR > today
+
+
 def points_of_year(house, member):
     """The member's points that still count today, together."""
-    return sum([number for day, number in member.points if day + YEAR > house.today])
+    return sum([number for day, number in member.points if counts_on(day, house.today)])
 
 
 def tier_of(house, member):

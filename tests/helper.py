@@ -6,6 +6,7 @@ from milehouse.house import answer_call, answers
 from milehouse.records import House
 
 MOST_ID = 1000000000
+LAST_OF_DAYS = 36524
 
 
 def rules(life, bonuses, steps):
@@ -38,6 +39,38 @@ def unpool(who):
 
 def give(who, other, n):
     return [[7, who, other, n]]
+
+
+def clock(day):
+    return [[8, day]]
+
+
+def show_lots(who):
+    return [[9, who]]
+
+
+def tier(who):
+    return [[10, who]]
+
+
+def hand(who):
+    return [[11, who]]
+
+
+def forecast(who, day):
+    return [[12, who, day]]
+
+
+def plan(who, *pairs):
+    return [[13, who], list(pairs)]
+
+
+def totals():
+    return [[14]]
+
+
+def awards():
+    return [[15]]
 
 
 def life(days):
@@ -112,6 +145,18 @@ def check_refusals(case, calls, refused):
             case.assertEqual(answer_call(house, call), [number])
             case.assertEqual(kept(house), before)
             case.assertEqual(last(*calls, call), [number])
+
+
+def check_changes_nothing(case, calls, asked):
+    """After the calls, each asked call is answered, twice the same, and changes nothing."""
+    house = house_after(*calls)
+    before = kept(house)
+    for call in asked:
+        with case.subTest(call=call):
+            answer = answer_call(house, call)
+            case.assertEqual(answer[0], 0)
+            case.assertEqual(kept(house), before)
+            case.assertEqual(ask(*calls, call, call)[-2:], [answer, answer])
 
 
 def check_ends(case, calls, make, least, greatest):

@@ -2,10 +2,9 @@
 
 import unittest
 
-from milehouse.house import answer_call
 from tests.helper import (
-    MOST_ID, award, cancel, check_ends, check_refusals, earn, give, held, house_after, join, kept, last, life, lots,
-    pool, unpool,
+    MOST_ID, ask, award, awards, cancel, check_ends, check_refusals, clock, earn, give, house_after, join, kept, last,
+    life, lots, pool, show_lots, totals, unpool,
 )
 
 # A pool whose award 7 has draws of member 2 for day 10, of 1 for day 20 and of 2 for day 30.
@@ -15,9 +14,7 @@ DRAWN = [
 
 
 def cancelled_on(day):
-    house = house_after(*DRAWN)
-    house.today = day
-    return answer_call(house, cancel(7)), house
+    return [*DRAWN, clock(day), cancel(7)]
 
 
 class Cancel(unittest.TestCase):
@@ -53,24 +50,26 @@ class Cancel(unittest.TestCase):
             (31, [0, 0, 13]),
         ):
             with self.subTest(day=day):
-                self.assertEqual(cancelled_on(day)[0], answer)
+                self.assertEqual(last(*cancelled_on(day)), answer)
 
     def test_lots_when_some_ran_out(self):
-        house = cancelled_on(11)[1]
-        self.assertEqual((lots(house, 1), lots(house, 2)), ([(20, 4)], [(30, 6)]))
-        house = cancelled_on(31)[1]
-        self.assertEqual((lots(house, 1), lots(house, 2)), ([], []))
+        for day, first, second in (
+            (10, [0, 20, 4], [0, 10, 3, 30, 6]), (11, [0, 20, 4], [0, 30, 6]), (21, [0], [0, 30, 6]), (31, [0], [0]),
+        ):
+            with self.subTest(day=day):
+                self.assertEqual(ask(*cancelled_on(day), show_lots(1), show_lots(2))[-2:], [first, second])
+
+    def test_put_back_miles_run_out_behind_their_last_day_as_others_do(self):
+        self.assertEqual(last(*cancelled_on(10), clock(11)), [0, 3, 2, 3])
+        self.assertEqual(last(*cancelled_on(11), clock(21)), [0, 4, 1, 4])
 
     def test_sums(self):
         for day, run_out in ((0, 0), (11, 3), (21, 7), (31, 13)):
             with self.subTest(day=day):
-                house = cancelled_on(day)[1]
-                self.assertEqual((house.earned, house.spent, house.returned), (13, 13, 13))
-                self.assertEqual((house.run_out, held(house)), (run_out, 13 - run_out))
+                self.assertEqual(last(*cancelled_on(day), totals()), [0, 13, 13, 13, run_out, 13 - run_out])
 
     def test_award_is_gone_also_when_all_ran_out(self):
-        house = cancelled_on(31)[1]
-        self.assertEqual(answer_call(house, cancel(7)), [-8])
+        self.assertEqual(ask(*cancelled_on(31), awards(), cancel(7))[-2:], [[0], [-8]])
 
 
 class Refused(unittest.TestCase):

@@ -2,10 +2,9 @@
 
 import unittest
 
-from milehouse.house import answer_call
-from milehouse.members import points_of_year, tier_of
 from tests.helper import (
-    MOST_ID, ask, award, check_ends, check_refusals, earn, house_after, join, last, life, lots, rules,
+    LAST_OF_DAYS, MOST_ID, ask, award, check_ends, check_refusals, clock, earn, house_after, join, last, life, lots,
+    rules, show_lots, tier,
 )
 
 TIERED = rules(365, [0, 50, 100, 300], [10, 20, 30])
@@ -44,10 +43,7 @@ class LastDay(unittest.TestCase):
         self.assertEqual(last(join(1), earn(1, 5), award(1, 1, 5)), [0, 1, 365, 5])
 
     def test_today_plus_life(self):
-        house = house_after(join(1), life(10))
-        house.today = 100
-        answer_call(house, earn(1, 5))
-        self.assertEqual(lots(house, 1), [(110, 5)])
+        self.assertEqual(last(join(1), life(10), clock(100), earn(1, 5), show_lots(1)), [0, 110, 5])
 
     def test_lots_of_one_last_day_are_put_together(self):
         calls = [join(1), earn(1, 5), life(7), earn(1, 2), life(365), earn(1, 6)]
@@ -55,20 +51,22 @@ class LastDay(unittest.TestCase):
         self.assertEqual(last(*calls, award(1, 1, 13)), [0, 1, 7, 2, 1, 365, 11])
 
     def test_last_day_is_36524_at_most(self):
-        for today, last_day in ((36513, 36523), (36514, 36524), (36515, 36524), (36524, 36524)):
+        for today, last_day in ((36513, 36523), (36514, 36524), (36515, 36524), (LAST_OF_DAYS, 36524)):
             with self.subTest(today=today):
-                house = house_after(join(1), life(10))
-                house.today = today
-                answer_call(house, earn(1, 5))
-                self.assertEqual(lots(house, 1), [(last_day, 5)])
+                calls = [join(1), life(10), clock(today), earn(1, 5), show_lots(1)]
+                self.assertEqual(last(*calls), [0, last_day, 5])
+
+    def test_lots_of_several_days_that_end_on_36524_are_put_together(self):
+        calls = [join(1), clock(36200), earn(1, 5), clock(36300), earn(1, 6), clock(LAST_OF_DAYS), earn(1, 7)]
+        self.assertEqual(last(*calls, show_lots(1)), [0, 36524, 18])
 
 
 class Tier(unittest.TestCase):
 
     def test_steps_that_are_not_above_the_points(self):
-        for points, tier in ((0, 0), (9, 0), (10, 1), (19, 1), (20, 2), (29, 2), (30, 3), (1000000, 3)):
+        for points, step in ((0, 0), (9, 0), (10, 1), (19, 1), (20, 2), (29, 2), (30, 3), (1000000, 3)):
             with self.subTest(points=points):
-                self.assertEqual(last(join(1), TIERED, earn(1, 1, points)), [0, 1, tier])
+                self.assertEqual(last(join(1), TIERED, earn(1, 1, points)), [0, 1, step])
 
     def test_points_of_several_calls_count_together(self):
         self.assertEqual(last(join(1), TIERED, earn(1, 1, 4), earn(1, 1, 5), earn(1, 1, 1)), [0, 1, 1])
@@ -81,18 +79,20 @@ class Tier(unittest.TestCase):
         self.assertEqual(house.members[1].points, [(0, 8), (0, 2)])
 
     def test_pair_has_the_day_it_came(self):
-        house = house_after(join(1), earn(1, 1, 8))
-        house.today = 12
-        answer_call(house, earn(1, 1, 3))
+        house = house_after(join(1), earn(1, 1, 8), clock(12), earn(1, 1, 3))
         self.assertEqual(house.members[1].points, [(0, 8), (12, 3)])
 
     def test_points_count_while_their_day_plus_365_is_after_today(self):
-        house = house_after(join(1), TIERED, earn(1, 1, 25))
-        member = house.members[1]
-        for today, points, tier in ((364, 25, 2), (365, 0, 0), (366, 0, 0)):
+        calls = [join(1), TIERED, clock(100), earn(1, 1, 25)]
+        for today, points, step in ((464, 25, 2), (465, 0, 0), (466, 0, 0)):
             with self.subTest(today=today):
-                house.today = today
-                self.assertEqual((points_of_year(house, member), tier_of(house, member)), (points, tier))
+                self.assertEqual(last(*calls, clock(today), tier(1)), [0, step, points])
+
+    def test_bonus_and_tier_fall_with_the_points(self):
+        calls = [join(1), TIERED, earn(1, 1, 12), clock(100), earn(1, 1, 9)]
+        self.assertEqual(last(*calls, clock(364), earn(1, 100)), [0, 200, 2])
+        self.assertEqual(last(*calls, clock(365), earn(1, 100)), [0, 100, 0])
+        self.assertEqual(last(*calls, clock(365), earn(1, 100, 1)), [0, 100, 1])
 
 
 class Refused(unittest.TestCase):
